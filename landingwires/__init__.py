@@ -1,0 +1,1 @@
+"""Staircases of any number of landings, wired landing by landing."""

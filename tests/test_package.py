@@ -1,0 +1,107 @@
+"""The interface stands where the document lists it, and the files keep within the subset of the language."""
+
+import ast
+import builtins
+import inspect
+import io
+import pathlib
+import re
+import tokenize
+import unittest
+
+from landingwires.books import Book
+from landingwires.standings import Standing
+
+FOLDER = pathlib.Path(__file__).resolve().parent.parent / 'landingwires'
+METHODS = {
+    Standing: ('__init__', 'marks', 'wires', 'is_short', 'bare', 'within', '__contains__', '__or__', '__and__', '__eq__'),
+    Book: ('__init__', 'text', 'wires', 'kinds', 'order', 'switches', 'lamps', 'put', 'risen', 'sunk', '__len__',
+           '__getitem__', '__contains__', '__invert__', '__eq__')}
+PARAMETERS = {
+    Standing: ['marks'], Standing.bare: ['wires'], Standing.within: ['self', 'other'], Book: ['text'],
+    Book.switches: ['self', 'kind'], Book.lamps: ['self', 'kind'], Book.put: ['self', 'number', 'text'],
+    Book.risen: ['self', 'kind', 'position', 'standing'], Book.sunk: ['self', 'kind', 'position', 'standing']}
+BUILTINS = '''len range enumerate zip min max sum abs sorted int str bool list tuple dict set isinstance ord repr any all
+divmod ValueError TypeError'''.split()
+BARRED = re.compile(r'\b(type|typing|enum|Enum|Flag|Generic|Protocol|ABC|namedtuple|register|mro|law|_wall)\b')
+DECORATORS = ('property', 'staticmethod')
+
+
+def files():
+    """All files of the package, each with its text."""
+    return [(path, path.read_text(encoding='utf-8')) for path in sorted(FOLDER.glob('*.py'))]
+
+
+class InterfaceTest(unittest.TestCase):
+
+    def test_methods_stand_in_the_class_itself(self):
+        for owner, names in METHODS.items():
+            for name in names:
+                self.assertIn(name, vars(owner), f'{owner} {name}')
+            self.assertEqual(owner.__bases__, (object,))
+
+    def test_parameters(self):
+        for call, names in PARAMETERS.items():
+            self.assertEqual(list(inspect.signature(call).parameters), names)
+
+    def test_classes_stand_in_their_files(self):
+        self.assertEqual(Standing.__module__, 'landingwires.standings')
+        self.assertEqual(Book.__module__, 'landingwires.books')
+
+
+class FilesTest(unittest.TestCase):
+
+    def check(self, holds, path, row):
+        self.assertTrue(holds, f'{path.name}, line {row}')
+
+    def test_the_folder_holds_files_of_the_package_only(self):
+        names = [path.name for path in FOLDER.iterdir() if path.name != '__pycache__']
+        for name in names:
+            self.assertRegex(name, r'\A[a-z_]+\.py\Z')
+        self.assertIn('__init__.py', names)
+
+    def test_sizes_and_characters(self):
+        for path, text in files():
+            lines = text.split('\n')
+            self.assertLess(len(lines), 400, path)
+            for row, line in enumerate(lines, 1):
+                self.check(len(line) <= 120 and all(' ' <= letter <= '~' for letter in line), path, row)
+            for node in ast.walk(ast.parse(text)):
+                if isinstance(node, ast.FunctionDef):
+                    self.check(node.end_lineno - node.lineno < 40, path, node.lineno)
+
+    def test_imports_are_of_the_package(self):
+        for path, text in files():
+            for node in ast.walk(ast.parse(text)):
+                self.check(not isinstance(node, ast.Import), path, 0)
+                if isinstance(node, ast.ImportFrom):
+                    self.check(node.level == 0 and node.module.startswith('landingwires.'), path, node.lineno)
+                    home = ast.parse((FOLDER / (node.module.split('.')[1] + '.py')).read_text())
+                    told = [inner.name for inner in home.body if hasattr(inner, 'name')]
+                    told += [inner.targets[0].id for inner in home.body if isinstance(inner, ast.Assign)]
+                    for alias in node.names:
+                        self.check(alias.name in told and alias.asname is None, path, node.lineno)
+
+    def test_words_and_signs(self):
+        for path, text in files():
+            for token in tokenize.generate_tokens(io.StringIO(text).readline):
+                if token.type in (tokenize.NAME, tokenize.STRING):
+                    self.check(not BARRED.search(token.string), path, token.start[0])
+                if token.type == tokenize.STRING:
+                    self.check('%' not in token.string, path, token.start[0])
+                self.check(token.string not in ('/', '/=', 'global', 'async', '@='), path, token.start[0])
+
+    def test_builtins_decorators_and_names(self):
+        for path, text in files():
+            for node in ast.walk(ast.parse(text)):
+                if isinstance(node, ast.Name) and hasattr(builtins, node.id):
+                    self.check(node.id in (*BUILTINS, *DECORATORS), path, node.lineno)
+                if isinstance(node, (ast.FunctionDef, ast.ClassDef)):
+                    kept = [mark.id in DECORATORS for mark in node.decorator_list]
+                    self.check(all(kept), path, node.lineno)
+                self.check(not isinstance(node, (ast.Lambda, ast.GeneratorExp, ast.Yield, ast.AnnAssign)), path,
+                           getattr(node, 'lineno', 0))
+
+
+if __name__ == '__main__':
+    unittest.main()
