@@ -1,8 +1,9 @@
 """Books: the text in which an electrician draws how the landings are wired."""
 
 from landingwires.errors import BadBook, BadChange, BadPosition, BadStanding, NoKind, NoLine
+from landingwires.positions import is_position
 from landingwires.reading import read_book
-from landingwires.rows import ABOVE, BELOW, inner_points, joins, lamp_names, led_marks, switch_names
+from landingwires.rows import lamp_names, risen_marks, sunk_marks, switch_names
 from landingwires.standings import Standing
 from landingwires.values import is_int
 
@@ -51,6 +52,10 @@ class Book:
         self._check_kind(kind)
         return tuple(lamp_names(self._rows[kind]))
 
+    def rows(self, kind):
+        """The lines of a kind of this book, each as the tuple of its words."""
+        return self._rows[kind]
+
     def put(self, number, text):
         """The book with this text in the place of a line; "": the line is left out."""
         self._check_line(number)
@@ -66,12 +71,12 @@ class Book:
     def risen(self, kind, position, standing):
         """What hangs together above a landing, standing being what does by all that lies below it."""
         self._check_step(kind, position, standing)
-        return self._led(kind, position, standing, BELOW, ABOVE)
+        return Standing(risen_marks(self._rows[kind], position, standing.marks))
 
     def sunk(self, kind, position, standing):
         """What hangs together below a landing, standing being what does by all that lies above it."""
         self._check_step(kind, position, standing)
-        return self._led(kind, position, standing, ABOVE, BELOW)
+        return Standing(sunk_marks(self._rows[kind], position, standing.marks))
 
     def __len__(self):
         return len(self._lines)
@@ -108,17 +113,6 @@ class Book:
             raise BadPosition(position)
         if not isinstance(standing, Standing) or standing.wires != self._wires:
             raise BadStanding(standing)
-
-    def _led(self, kind, position, standing, near, far):
-        rows = self._rows[kind]
-        return Standing(led_marks(joins(rows, position), inner_points(rows), standing.marks, near, far))
-
-
-def is_position(value, switches):
-    """Whether any value is a position of so many switches."""
-    if not isinstance(value, tuple) or len(value) != switches:
-        return False
-    return all([is_int(turned) and 0 <= turned <= 1 for turned in value])
 
 
 def turned_line(line):

@@ -53,6 +53,16 @@ def lamp_names(rows):
     return [row[1] for row in rows if row[0] == 'lamp']
 
 
+def lamp_ends(rows, lamp):
+    """The two points between which the lamp with this name is."""
+    return [points_of(row) for row in rows if row[0] == 'lamp' and row[1] == lamp][0]
+
+
+def kind_points(rows, wires):
+    """All points of a kind: its wires, live, back and its inner points."""
+    return [*wire_points(BELOW, wires), *wire_points(ABOVE, wires), *ENDS, *inner_points(rows)]
+
+
 def inner_points(rows):
     """The inner points of a kind, each once."""
     found = []
@@ -97,13 +107,27 @@ def switched(row, turned):
     return [(one, two), (three, four)] if turned == 0 else [(one, four), (three, two)]
 
 
-def led_marks(pairs, inner, marks, near, far):
-    """The marks at the far side of a landing that joins these pairs, marks being those at its near side."""
-    near_things = [*wire_points(near, len(marks) - 2), *ENDS]
-    far_things = [*wire_points(far, len(marks) - 2), *ENDS]
+def risen_marks(rows, position, marks, points=()):
+    """The marks above a landing, then those of these points of it, marks being those below it."""
+    return led_marks(joins(rows, position), marks, (BELOW, ABOVE), points)
+
+
+def sunk_marks(rows, position, marks):
+    """The marks below a landing, marks being those above it."""
+    return led_marks(joins(rows, position), marks, (ABOVE, BELOW), ())
+
+
+def led_marks(pairs, marks, sides, points):
+    """The marks at the far side of a landing that joins these pairs, then those of these points."""
+    near, far = [[*wire_points(side, len(marks) - 2), *ENDS] for side in sides]
     # A mark is the least number that hangs together, so the things that are told stand first.
-    points = [*far_things, *near_things[:-2], *inner]
-    together = list(range(len(points)))
-    for one, other in [(near_things[at], near_things[mark]) for at, mark in enumerate(marks)] + pairs:
-        together = merged(together, points.index(one), points.index(other))
-    return tuple(together[:len(far_things)])
+    told = [*far, *points]
+    hung = [*pairs, *[(near[at], near[mark]) for at, mark in enumerate(marks)]]
+    numbers = {}
+    for row in [told, *hung]:
+        for point in row:
+            numbers.setdefault(point, len(numbers))
+    together = list(range(len(numbers)))
+    for one, other in hung:
+        together = merged(together, numbers[one], numbers[other])
+    return tuple([together[numbers[thing]] for thing in told])

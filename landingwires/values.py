@@ -15,3 +15,8 @@ def is_name(value):
     if not isinstance(value, str) or not 1 <= len(value) <= MOST_LETTERS:
         return False
     return value not in ENDS and all([letter in LETTERS for letter in value])
+
+
+def is_ascending(values):
+    """Whether the values of a tuple, all of one form, stand as sorted, none of them twice."""
+    return all([one < other for one, other in zip(values, values[1:])])

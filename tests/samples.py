@@ -5,12 +5,15 @@ import random
 
 from landingwires.books import Book
 from landingwires.errors import WireError
+from landingwires.houses import House
+from landingwires.rules import Rule, odd
 from landingwires.standings import Standing
 
 FOOT = 'kind foot\n  turn s live a1 a2\n  lamp l a3 back'
 STAIR = 'kind stair\n  cross s b1 a1 b2 a2\n  link b3 a3\n  lamp l a3 back'
 HEAD = 'kind head\n  turn s b3 b1 b2\n  lamp l b3 back'
 HALL = '\n'.join(['wires 3', FOOT, STAIR, HEAD, 'house foot stair* head'])
+OLD = 'wires 1\nkind foot\n  turn s x live back\n  lamp l x a1\nkind head\n  turn s b1 live back\nhouse foot head'
 SMALL = 'wires 1\nkind foot\n  switch s b1 a1\nhouse foot*'
 MIXED = '\n'.join([
     'wires 2', 'kind low', '  switch s live a1', '  turn t back x a2', '  lamp l x a1', '  link x b2',
@@ -24,7 +27,31 @@ ANY_VALUES = (
 
 def any_values():
     """Values of all sorts that the document calls any value."""
-    return [*ANY_VALUES, nested(30), Standing.bare(1), Standing.bare(4), Book(SMALL), WireError(3)]
+    return [*ANY_VALUES, *[nested(depth) for depth in (29, 30)], Standing.bare(1), Standing.bare(4), Book(SMALL),
+            WireError(3), House(Book(SMALL), (('foot', (0,)),)), Rule('begin even\nlit even')]
+
+
+def bent_values(value):
+    """The value with one thing in it, at any depth, changed for one that can nowhere stand there."""
+    yield from (None, [], {}, 'no one', 10 ** 11, nested(30), Standing.bare(2))
+    if value.__class__ is tuple:
+        yield list(value)
+        for at, part in enumerate(value):
+            for bent in bent_values(part):
+                yield (*value[:at], bent, *value[at + 1:])
+    elif value.__class__ is int:
+        yield from (bool(value), str(value), -1 - value)
+    elif value.__class__ is str:
+        yield from (value + ' ', value.upper())
+
+
+def moved_values(values):
+    """A tuple with one item left out, told twice, or exchanged with the next one."""
+    for at in range(len(values)):
+        yield values[:at] + values[at + 1:]
+        yield values[:at] + values[at:at + 1] + values[at:]
+    for at in range(len(values) - 1):
+        yield values[:at] + (values[at + 1], values[at]) + values[at + 2:]
 
 
 def nested(depth):
@@ -35,7 +62,7 @@ def nested(depth):
     return value
 
 
-def check_raises(case, error, value, call, *args, **named):
+def check_raises(case, error, value, call, /, *args, **named):
     """Check that the call raises just this error with the very value."""
     with case.assertRaises(WireError) as caught:
         call(*args, **named)
@@ -129,3 +156,161 @@ def drawn_books(wires, count):
             lines.append(f"  {form}{name} {' '.join(lots.sample(ends, sizes[form]))}")
         books.append(Book('\n'.join([f'wires {wires}', 'kind k', *lines, 'kind e', 'house k* e k'])))
     return books
+
+
+def lots_of_books(wires, count, seed=0):
+    """Books with two kinds and a kind that is no item, with lamps, and items of all sorts, drawn by lot."""
+    lots = random.Random(2000 + 10 * wires + seed)
+    ends = [f'{side}{wire + 1}' for side in 'ab' for wire in range(wires)] + ['live', 'back', 'x']
+    sizes = {'link': 2, 'switch': 2, 'turn': 3, 'cross': 4, 'lamp': 2}
+    books = []
+    for _ in range(count):
+        lines = [f'wires {wires}']
+        for kind in ('k', 'm', 'out'):
+            forms = lots.choices(['switch', 'turn', 'cross', 'link'], k=lots.randrange(1, 3)) + ['lamp']
+            lines.append(f'kind {kind}')
+            for at, form in enumerate(forms):
+                name = '' if form == 'link' else ' ' + 'stuvwxyz'[at]
+                lines.append(f"  {form}{name} {' '.join(lots.sample(ends, sizes[form]))}")
+        items = [lots.choice(('k', 'm', 'k*', 'm*')) for _ in range(lots.randrange(1, 4))]
+        books.append(Book('\n'.join([*lines, ' '.join(['house', *items])])))
+    return books
+
+
+def all_landings(book, most):
+    """The landings of all houses of a book with at most so many landings, by all positions, the shortest ones first."""
+    counts = [range(most + 1) if starred else (1,) for _, starred in book.order]
+    told = {tuple(kind for (kind, _), many in zip(book.order, some) for _ in range(many))
+            for some in itertools.product(*counts)}
+    return [tuple(zip(kinds, positions)) for kinds in sorted(told, key=lambda kinds: (len(kinds), kinds))
+            if 1 <= len(kinds) <= most
+            for positions in itertools.product(*[all_positions(book, kind) for kind in kinds])]
+
+
+def points_of(book, kind):
+    """All points of a kind, as the document tells them."""
+    wires = [f'{side}{wire + 1}' for side in 'ab' for wire in range(book.wires)]
+    inner = [word for form, *words in lines_of(book, kind) for word in (words if form == 'link' else words[1:])]
+    return sorted({*wires, 'live', 'back', *inner})
+
+
+class SlowHouse:
+    """A house as the document tells it: places, neighbours, and walks from one to the next."""
+
+    def __init__(self, book, landings):
+        self.book, self.landings = book, landings
+        self.places = [(number, point) for number, (kind, _) in enumerate(landings) for point in points_of(book, kind)]
+        self.pairs = {frozenset(pair) for pair in self.neighbour_pairs()}
+        self.found = {}
+
+    def neighbour_pairs(self):
+        for number, (kind, position) in enumerate(self.landings):
+            for one, other in pairs_of(lines_of(self.book, kind), position):
+                yield (number, one), (number, other)
+            for other in range(number):
+                yield (number, 'live'), (other, 'live')
+                yield (number, 'back'), (other, 'back')
+            for wire in range(1, self.book.wires + 1):
+                if number:
+                    yield (number - 1, f'a{wire}'), (number, f'b{wire}')
+
+    def reach(self, place):
+        """All places that hang together with this one."""
+        if place not in self.found:
+            self.found[place] = reached(self.pairs, place)
+        return self.found[place]
+
+    def joined(self, one, other):
+        return other in self.reach(one)
+
+    def ends(self, number, lamp):
+        lines = lines_of(self.book, self.landings[number][0])
+        return [(number, point) for form, *words in lines if (form, words[0]) == ('lamp', lamp) for point in words[1:]]
+
+    def word(self, number, lamp):
+        live, back = self.reach((0, 'live')), self.reach((0, 'back'))
+        one, other = self.ends(number, lamp)
+        if live & back:
+            return 'short'
+        if one in live and other in back or one in back and other in live:
+            return 'lit'
+        return 'warm' if one in live or other in live else 'dark'
+
+    def is_so(self, number, what):
+        """Whether a landing has what may be."""
+        if what == ('short',):
+            return self.joined((0, 'live'), (0, 'back'))
+        if self.landings[number][0] != what[1]:
+            return False
+        if what[0] == 'lamp':
+            return self.word(number, what[2]) == what[3]
+        return self.joined((number, what[2]), (number, what[3]))
+
+
+def slow_seen(book):
+    """The least tuples that are shut, as seen from below and from above, each by going on until nothing comes."""
+    last, bare = len(book.order), tuple(range(book.wires + 2))
+    below, above = {(0, bare)}, {(last, bare)}
+    while True:
+        sizes = len(below), len(above)
+        for item, (kind, starred) in enumerate(book.order):
+            gate = item if starred else item + 1
+            if starred:
+                below |= {(item + 1, marks) for at, marks in below if at == item}
+                above |= {(item, marks) for at, marks in above if at == item + 1}
+            for position in all_positions(book, kind):
+                below |= {(gate, slow_step(book, kind, position, Standing(marks), 'b', 'a'))
+                          for at, marks in below if at == item}
+                above |= {(item, slow_step(book, kind, position, Standing(marks), 'a', 'b'))
+                          for at, marks in above if at == gate}
+        if sizes == (len(below), len(above)):
+            return tuple(sorted(below)), tuple(sorted(above))
+
+
+def all_whats(book):
+    """All that may be of a book."""
+    yield ('short',)
+    for kind in book.kinds:
+        for lamp in book.lamps(kind):
+            for word in ('short', 'lit', 'warm', 'dark'):
+                yield ('lamp', kind, lamp, word)
+        for one, other in itertools.combinations(points_of(book, kind), 2):
+            yield ('joined', kind, one, other)
+
+
+def slow_meeting(book, kind, position, one, other):
+    """A landing as a slow house, one and other being the marks of what hangs together below it and above it."""
+    slow = SlowHouse(book, ((kind, position),))
+    for side, marks in (('b', one), ('a', other)):
+        things = [f'{side}{wire + 1}' for wire in range(book.wires)] + ['live', 'back']
+        slow.pairs |= {frozenset(((0, things[at]), (0, things[mark]))) for at, mark in enumerate(marks)}
+    return slow
+
+
+def slow_move(rule, state, kind, position):
+    """The state to which a landing leads, line by line."""
+    sign = ''.join(map(str, position)) or '-'
+    lines = [line.split() for line in rule.text.split('\n')[1:-1]]
+    return next((line[3] for line in lines if line[:3] == [state, kind, sign]), state)
+
+
+def slow_says(rule, landings):
+    """Whether a rule says lit, line by line."""
+    lines = rule.text.split('\n')
+    state = lines[0].split()[1]
+    for kind, position in landings:
+        state = slow_move(rule, state, kind, position)
+    return state in lines[-1].split()[1:]
+
+
+def drawn_rules(book, count, seed=0):
+    """Rules with moves by the kinds of a book, drawn by lot, behind four plain ones."""
+    lots = random.Random(3000 + seed)
+    found = [odd(book), ~odd(book), Rule('begin a\nlit'), Rule('begin a\nlit a')]
+    for _ in range(count):
+        names = 'abcdef'[:lots.randrange(1, 5)]
+        lines = [f"{state} {kind} {''.join(map(str, position)) or '-'} {lots.choice(names)}" for state in names
+                 for kind in book.kinds for position in all_positions(book, kind) if lots.random() < 0.4]
+        lit = sorted(lots.sample(names, lots.randrange(len(names) + 1)))
+        found.append(Rule('\n'.join([f'begin {lots.choice(names)}', *lines[:60], ' '.join(['lit', *lit])])))
+    return found

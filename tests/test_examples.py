@@ -20,6 +20,49 @@ Section 5:
 >>> up = hall.risen('foot', (0,), bare)
 >>> [up.marks, hall.risen('stair', (1,), up).marks, hall.sunk('head', (1,), bare).marks, hall.put(7, '').sunk('stair', (0,), Standing((0, 0, 0, 3, 4))).marks]
 [(0, 1, 2, 0, 4), (0, 1, 2, 1, 4), (0, 1, 1, 3, 4), (0, 0, 2, 3, 4)]
+
+Section 6:
+
+>>> from landingwires.houses import House
+>>> house = House(hall, (('foot', (0,)), ('stair', (1,)), ('head', (1,))))
+>>> [house.lit, house.turned(0, 's').lit, house.joined((0, 'live'), (2, 'b3')), house.word(1, 'l')]
+[((0, 'l'), (1, 'l'), (2, 'l')), (), True, 'lit']
+>>> [house.below(2).marks, house.above(0).marks, (~house).below(2).marks, (~house).lit == house.lit]
+[(0, 1, 2, 1, 4), (0, 1, 0, 3, 4), (0, 1, 0, 3, 4), True]
+>>> old = Book('wires 1\nkind foot\n  turn s x live back\n  lamp l x a1\nkind head\n  turn s b1 live back\nhouse foot head')
+>>> [House(old, (('foot', (one,)), ('head', (other,)))).word(0, 'l') for one in (0, 1) for other in (0, 1)]
+['warm', 'lit', 'lit', 'dark']
+
+Section 7:
+
+>>> from landingwires.burning import burns, shows_burns
+>>> low = House(old, (('foot', (0,)), ('head', (0,))))
+>>> [burns(low, 0, 'l')[0], shows_burns(low, 0, 'l', ('warm', ((0, 'x'), (0, 'live')), ((0, 'back'), (1, 'back'))))]
+['warm', True]
+>>> shows_burns(low, 0, 'l', ('warm', ((0, 'a1'), (1, 'b1'), (1, 'live')), ((0, 'back'),)))
+False
+
+Section 8:
+
+>>> from landingwires.reaching import can, shows_can, standings
+>>> standings(old)
+(((0, (0, 1, 2)), (1, (0, 1, 2)), (2, (0, 1, 2))), ((0, (0, 1, 2)), (1, (0, 0, 2)), (1, (0, 1, 0)), (2, (0, 1, 2))))
+>>> [len(some) for some in standings(hall)]
+[6, 6]
+>>> [can(hall, ('lamp', 'stair', 'l', 'warm'))[0], can(old, ('lamp', 'foot', 'l', 'warm')), shows_can(hall, ('short',), ('never',) + standings(hall))]
+['never', ('can', (('foot', (0,)), ('head', (0,))), 0), True]
+>>> [len(can(hall, ('joined', 'stair', 'a2', 'live'))[1]), can(hall, ('joined', 'stair', 'a1', 'a2'))[0]]
+[3, 'never']
+
+Section 10:
+
+>>> from landingwires.keeping import keeps
+>>> from landingwires.rules import odd, Rule
+>>> rule = odd(hall)
+>>> [rule.states, len(rule.text.split('\n')), rule(house), (~rule).lit, (~rule)(house), rule.text.split('\n')[1]]
+[('even', 'odd'), 8, False, ('even',), True, 'even foot 1 odd']
+>>> [keeps(hall, 'stair', 'l', ~rule)[0], keeps(hall, 'stair', 'l', rule)[0], len(keeps(hall, 'foot', 'l', rule)[1]), keeps(old, 'foot', 'l', odd(old))[0]]
+['keeps', 'breaks', 2, 'keeps']
 """
 
 import doctest
@@ -31,7 +74,7 @@ class ExamplesTest(unittest.TestCase):
 
     def test_examples(self):
         told = doctest.testmod(sys.modules[__name__])
-        self.assertEqual((told.failed, told.attempted), (0, 11))
+        self.assertEqual((told.failed, told.attempted), (0, 31))
 
 
 if __name__ == '__main__':

@@ -10,17 +10,33 @@ import tokenize
 import unittest
 
 from landingwires.books import Book
+from landingwires.burning import burns, shows_burns
+from landingwires.houses import House
+from landingwires.keeping import keeps, shows_keeps
+from landingwires.reaching import can, shows_can, standings
+from landingwires.rules import Rule, odd
 from landingwires.standings import Standing
 
 FOLDER = pathlib.Path(__file__).resolve().parent.parent / 'landingwires'
 METHODS = {
     Standing: ('__init__', 'marks', 'wires', 'is_short', 'bare', 'within', '__contains__', '__or__', '__and__', '__eq__'),
     Book: ('__init__', 'text', 'wires', 'kinds', 'order', 'switches', 'lamps', 'put', 'risen', 'sunk', '__len__',
-           '__getitem__', '__contains__', '__invert__', '__eq__')}
+           '__getitem__', '__contains__', '__invert__', '__eq__'),
+    House: ('__init__', 'book', 'landings', 'is_short', 'lit', 'word', 'joined', 'below', 'above', 'turned', '__len__',
+            '__getitem__', '__invert__', '__eq__'),
+    Rule: ('__init__', 'text', 'states', 'begin', 'lit', '__call__', '__invert__', '__eq__')}
 PARAMETERS = {
     Standing: ['marks'], Standing.bare: ['wires'], Standing.within: ['self', 'other'], Book: ['text'],
     Book.switches: ['self', 'kind'], Book.lamps: ['self', 'kind'], Book.put: ['self', 'number', 'text'],
-    Book.risen: ['self', 'kind', 'position', 'standing'], Book.sunk: ['self', 'kind', 'position', 'standing']}
+    Book.risen: ['self', 'kind', 'position', 'standing'], Book.sunk: ['self', 'kind', 'position', 'standing'],
+    House: ['book', 'landings'], House.word: ['self', 'number', 'lamp'], House.joined: ['self', 'one', 'other'],
+    House.below: ['self', 'number'], House.above: ['self', 'number'], House.turned: ['self', 'number', 'switch'],
+    burns: ['house', 'number', 'lamp'], shows_burns: ['house', 'number', 'lamp', 'value'], standings: ['book'],
+    can: ['book', 'what'], shows_can: ['book', 'what', 'value'], Rule: ['text'], Rule.__call__: ['self', 'house'],
+    odd: ['book'], keeps: ['book', 'kind', 'lamp', 'rule'], shows_keeps: ['book', 'kind', 'lamp', 'rule', 'value']}
+FILES = {
+    'standings': (Standing,), 'books': (Book,), 'houses': (House,), 'burning': (burns, shows_burns),
+    'reaching': (standings, can, shows_can), 'rules': (Rule, odd), 'keeping': (keeps, shows_keeps)}
 BUILTINS = '''len range enumerate zip min max sum abs sorted int str bool list tuple dict set isinstance ord repr any all
 divmod ValueError TypeError'''.split()
 BARRED = re.compile(r'\b(type|typing|enum|Enum|Flag|Generic|Protocol|ABC|namedtuple|register|mro|law|_wall)\b')
@@ -44,9 +60,10 @@ class InterfaceTest(unittest.TestCase):
         for call, names in PARAMETERS.items():
             self.assertEqual(list(inspect.signature(call).parameters), names)
 
-    def test_classes_stand_in_their_files(self):
-        self.assertEqual(Standing.__module__, 'landingwires.standings')
-        self.assertEqual(Book.__module__, 'landingwires.books')
+    def test_classes_and_functions_stand_in_their_files(self):
+        for name, things in FILES.items():
+            for thing in things:
+                self.assertEqual(thing.__module__, 'landingwires.' + name)
 
 
 class FilesTest(unittest.TestCase):
@@ -94,7 +111,7 @@ class FilesTest(unittest.TestCase):
     def test_builtins_decorators_and_names(self):
         for path, text in files():
             for node in ast.walk(ast.parse(text)):
-                if isinstance(node, ast.Name) and hasattr(builtins, node.id):
+                if isinstance(node, ast.Name) and node.id != '_' and hasattr(builtins, node.id):
                     self.check(node.id in (*BUILTINS, *DECORATORS), path, node.lineno)
                 if isinstance(node, (ast.FunctionDef, ast.ClassDef)):
                     kept = [mark.id in DECORATORS for mark in node.decorator_list]
