@@ -107,8 +107,8 @@ def mark_views(book):
     def step_down(kind, position, rest):
         return (steps.led_down(kind, position, rest[0]),)
 
-    rest = (Standing.bare(book.wires).marks,)
-    return Rising(book, rest, step_up), Sinking(book, rest, step_down)
+    bare = Standing.bare(book.wires).marks
+    return Rising(book, (bare,), step_up), Sinking(book, (bare,), step_down)
 
 
 def ways_seen(view, most=None):

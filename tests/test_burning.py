@@ -91,6 +91,17 @@ class ToldTest(unittest.TestCase):
         self.assertEqual(burns(house, 1, 'm'), ('warm', ((1, 'live'),), ((0, 'back'), (1, 'back'))))
         self.assertEqual(burns(house, 0, 'n'), ('dark', ((0, 'live'), (1, 'live'))))
 
+    def test_a_house_of_one_landing(self):
+        for lines, told in ((('link live x', 'link x back'), ('short', ((0, 'live'), (0, 'x'), (0, 'back')))),
+                            (('link live x',), ('warm', ((0, 'x'), (0, 'live')), ((0, 'back'),))),
+                            (('link back x',), ('dark', ((0, 'live'),))),
+                            (('link live x', 'link y back'), ('lit', ((0, 'x'), (0, 'live')), ((0, 'y'), (0, 'back')),
+                                                              ((0, 'live'), (0, 'x'))))):
+            text = '\n'.join(['wires 1', 'kind k', *['  ' + line for line in lines], '  lamp l x y', 'house k'])
+            house = House(Book(text), (('k', ()),))
+            self.assertEqual(burns(house, 0, 'l'), told)
+            self.assertIs(shows_burns(house, 0, 'l', told), True)
+
     def test_a_shore_of_another_landing(self):
         house = House(Book(HALL), (('foot', (0,)), ('stair', (1,)), ('head', (1,))))
         self.assertEqual(burns(house, 1, 'l')[0], 'lit')

@@ -26,7 +26,7 @@ class RuleCase(unittest.TestCase):
         if good:
             self.assertEqual(Rule(f'begin a\n{line}\nlit').text, f'begin a\n{line}\nlit')
         else:
-            self.check_bad(f'begin a\na k - a\n{line}\nlit', 3)
+            self.check_bad(f'begin a\na z - a\n{line}\nlit', 3)
 
 
 class TextTest(RuleCase):
@@ -82,6 +82,7 @@ class TextTest(RuleCase):
     def test_no_two_lines_with_one_state_kind_and_position(self):
         self.check_bad('begin a\na k 0 a\na k 0 b\nlit', 3)
         self.check_bad('begin a\na k 0 b\na k 1 b\na k 0 b\nlit', 4)
+        self.check_bad('begin a\na k 0 a\na k 0 a\na k 1 b\na m 0 b\nlit', 3)
         self.assertEqual(Rule('begin a\na k 0 a\na k 1 b\nb k 0 a\na m 0 b\na k - b\na k 00 b\nlit').states, ('a', 'b'))
 
     def test_last_lines(self):
