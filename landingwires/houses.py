@@ -1,11 +1,10 @@
 """Houses: landings, the switches of each in a position, and what hangs together in them."""
 
-from landingwires.errors import BadLandings, BadPlace, NoLamp, NoLanding, NoSwitch
+from landingwires.errors import BadLandings, BadPlace
 from landingwires.gates import are_landings
-from landingwires.places import is_number, is_place, place_groups
-from landingwires.rows import lamp_ends
+from landingwires.landings import check_number, lamp_word, lit_lamps, with_turned
+from landingwires.places import is_place, place_groups
 from landingwires.standings import Standing
-from landingwires.words import word_of
 
 
 class House:
@@ -36,19 +35,11 @@ class House:
     @property
     def lit(self):
         """(number, lamp) of all lamps that are lit."""
-        lamps = [(number, lamp) for number, (kind, position) in enumerate(self._landings)
-                 for lamp in self._book.lamps(kind)]
-        return tuple([(number, lamp) for number, lamp in lamps if self.word(number, lamp) == 'lit'])
+        return lit_lamps(self._book, self._landings, self._groups)
 
     def word(self, number, lamp):
         """The word of a lamp."""
-        self._check_number(number)
-        kind = self._landings[number][0]
-        if lamp not in self._book.lamps(kind):
-            raise NoLamp(lamp)
-        points = ('live', 'back', *lamp_ends(self._book.rows(kind), lamp))
-        live, back, one, other = [self._groups[(number, point)] for point in points]
-        return word_of(live, back, one, other)
+        return lamp_word(self._book, self._landings, self._groups, number, lamp)
 
     def joined(self, one, other):
         """Whether two places hang together."""
@@ -59,7 +50,7 @@ class House:
 
     def below(self, number):
         """What hangs together below a landing by the landings there alone."""
-        self._check_number(number)
+        check_number(self._landings, number)
         standing = Standing.bare(self._book.wires)
         for kind, position in self._landings[:number]:
             standing = self._book.risen(kind, position, standing)
@@ -67,7 +58,7 @@ class House:
 
     def above(self, number):
         """What hangs together above a landing by the landings there alone."""
-        self._check_number(number)
+        check_number(self._landings, number)
         standing = Standing.bare(self._book.wires)
         for kind, position in self._landings[:number:-1]:
             standing = self._book.sunk(kind, position, standing)
@@ -75,20 +66,13 @@ class House:
 
     def turned(self, number, switch):
         """The house with this switch in its other position."""
-        self._check_number(number)
-        kind, position = self._landings[number]
-        switches = self._book.switches(kind)
-        if switch not in switches:
-            raise NoSwitch(switch)
-        at = switches.index(switch)
-        landing = (kind, (*position[:at], 1 - position[at], *position[at + 1:]))
-        return House(self._book, (*self._landings[:number], landing, *self._landings[number + 1:]))
+        return House(self._book, with_turned(self._book, self._landings, number, switch))
 
     def __len__(self):
         return len(self._landings)
 
     def __getitem__(self, number):
-        self._check_number(number)
+        check_number(self._landings, number)
         return self._landings[number]
 
     def __iter__(self):
@@ -99,7 +83,3 @@ class House:
 
     def __eq__(self, other):
         return isinstance(other, House) and self._book == other._book and self._landings == other._landings
-
-    def _check_number(self, number):
-        if not is_number(self._landings, number):
-            raise NoLanding(number)

@@ -6,12 +6,10 @@ from landingwires.houses import House
 from landingwires.meeting import Look, nearest
 from landingwires.places import is_number
 from landingwires.rows import lamp_ends
-from landingwires.seeing import Rising, Sinking, Steps, are_states, is_shut, ways_seen
+from landingwires.seeing import MOST_TRIPLES, end_views, is_evidence, mark_steps, ways_seen, without_ways
 from landingwires.standings import Standing
 from landingwires.values import is_ascending
-from landingwires.words import word_of
-
-MOST_TRIPLES = 1000
+from landingwires.words import LIT, is_lit_by
 
 
 def keeps(book, kind, lamp, rule):
@@ -47,24 +45,22 @@ def least_triples(book, kind, lamp, rule):
 
 def rule_views(book, rule):
     """Seen from below, as (gate, marks, state), and seen from above, as (gate, marks, states)."""
-    steps = Steps(book)
+    mark_up, mark_down = mark_steps(book)
 
     def step_up(kind, position, rest):
-        marks, state = rest
-        return steps.led_up(kind, position, marks), rule.led(state, kind, position)
+        return (*mark_up(kind, position, rest[:1]), rule.led(rest[1], kind, position))
 
     def step_down(kind, position, rest):
-        marks, states = rest
-        leading = [state for state in rule.states if rule.led(state, kind, position) in states]
-        return steps.led_down(kind, position, marks), tuple(leading)
+        leading = [state for state in rule.states if rule.led(state, kind, position) in rest[1]]
+        return (*mark_down(kind, position, rest[:1]), tuple(leading))
 
     bare = Standing.bare(book.wires).marks
-    return Rising(book, (bare, rule.begin), step_up), Sinking(book, (bare, rule.lit), step_down)
+    return end_views(book, (bare, rule.begin), (bare, rule.lit), step_up, step_down)
 
 
 def nearest_break(book, kind, lamp, rule, below, above):
     """The shortest house at a meeting of which the lamp is not as the rule says, in three parts, or None."""
-    look = Look(book, lamp_ends(book.rows(kind), lamp))
+    look = Look(book, lamp_ends(book.rows(kind), lamp), is_lit_by)
 
     def arrive(name, position, rest):
         marks, state = rest
@@ -73,8 +69,7 @@ def nearest_break(book, kind, lamp, rule, below, above):
     def is_broken(arrived, rest):
         near, state = arrived
         marks, states = rest
-        live, back, one, other = look.met(near, marks)
-        return (word_of(live, back, one, other) == 'lit') != (state in states)
+        return look.told(near, marks) != (state in states)
 
     return nearest(book, kind, below, above, arrive, is_broken)
 
@@ -88,13 +83,10 @@ def shows_kept(book, kind, lamp, rule, below, above):
     def is_rest_above(rest):
         return len(rest) == 1 and are_rule_states(rule, rest[0])
 
-    if not are_states(book, below, is_rest_below) or not are_states(book, above, is_rest_above):
-        return False
     rising, sinking = rule_views(book, rule)
-    if not is_shut(rising, below) or not is_shut(sinking, above):
+    if not is_evidence(book, rising, below, is_rest_below) or not is_evidence(book, sinking, above, is_rest_above):
         return False
-    ways = [{state: () for state in states} for states in (below, above)]
-    return nearest_break(book, kind, lamp, rule, ways[0], ways[1]) is None
+    return nearest_break(book, kind, lamp, rule, without_ways(below), without_ways(above)) is None
 
 
 def are_rule_states(rule, value):
@@ -107,4 +99,4 @@ def breaks_in(book, kind, lamp, rule, landings, number):
     if not are_landings(book, landings) or not is_number(landings, number) or landings[number][0] != kind:
         return False
     house = House(book, landings)
-    return (house.word(number, lamp) == 'lit') != rule(house)
+    return (house.word(number, lamp) == LIT) != rule(house)

@@ -7,23 +7,31 @@ from landingwires.standings import merged
 
 
 class Look:
-    """What hangs together of live, back and some points of a landing at its meetings, each reckoned once."""
+    """What is told of some points of a landing at its meetings, each reckoned once.
 
-    def __init__(self, book, points):
+    tell is handed numbers of live, back and the points that are equal for those that hang together.
+    """
+
+    def __init__(self, book, points, tell):
         self._book = book
         self._points = points
-        self._met = {}
+        self._tell = tell
+        self._near = {}
+        self._told = {}
 
     def near(self, kind, position, marks):
         """The marks above a landing and of its points by this landing and by what is seen below it."""
-        return risen_marks(self._book.rows(kind), position, marks, self._points)
+        key = (kind, position, marks)
+        if key not in self._near:
+            self._near[key] = risen_marks(self._book.rows(kind), position, marks, self._points)
+        return self._near[key]
 
-    def met(self, near, marks):
-        """Numbers of live, back and the points, equal for those that hang together by this and what is seen above."""
+    def told(self, near, marks):
+        """What is told when this and what is seen above the landing hang together."""
         key = (near, marks)
-        if key not in self._met:
-            self._met[key] = put_together(near, marks)[len(marks) - 2:]
-        return self._met[key]
+        if key not in self._told:
+            self._told[key] = self._tell(put_together(near, marks)[len(marks) - 2:])
+        return self._told[key]
 
 
 def put_together(near, marks):

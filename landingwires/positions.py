@@ -22,6 +22,11 @@ def all_positions(switches):
     return found
 
 
+def turned_at(position, at):
+    """The position in which the switch with this number stands the other way."""
+    return (*position[:at], 1 - position[at], *position[at + 1:])
+
+
 def written(position):
     """A position as it is written in texts."""
     return ''.join([str(turned) for turned in position]) if position else NO_SWITCH

@@ -6,7 +6,7 @@ from landingwires.houses import House
 from landingwires.meeting import Look, nearest
 from landingwires.places import is_number
 from landingwires.rows import kind_points, lamp_ends
-from landingwires.seeing import are_states, is_shut, mark_views, ways_seen
+from landingwires.seeing import is_evidence, is_nothing, mark_views, ways_seen, without_ways
 from landingwires.words import WORDS, word_of
 
 
@@ -40,28 +40,25 @@ def shows_can(book, what, value):
 
 def shows_never(book, what, below, above):
     """Whether any two values are shut, as seen from below and from above, and at none of their meetings it is so."""
-    if not are_states(book, below, is_nothing) or not are_states(book, above, is_nothing):
-        return False
     rising, sinking = mark_views(book)
-    if not is_shut(rising, below) or not is_shut(sinking, above):
+    if not is_evidence(book, rising, below, is_nothing) or not is_evidence(book, sinking, above, is_nothing):
         return False
-    return nearest_so(book, what, {state: () for state in below}, {state: () for state in above}) is None
-
-
-def is_nothing(rest):
-    """Whether nothing stands behind the marks of a state."""
-    return rest == ()
+    return nearest_so(book, what, without_ways(below), without_ways(above)) is None
 
 
 def nearest_so(book, what, below, above):
     """The shortest house at a meeting of which it is so, in three parts, or None."""
-    look = Look(book, what_points(book, what))
+
+    def is_so_by(numbers):
+        return word_of(numbers) == what[3] if what[0] == 'lamp' else numbers[-2] == numbers[-1]
+
+    look = Look(book, what_points(book, what), is_so_by)
 
     def arrive(kind, position, rest):
         return look.near(kind, position, rest[0])
 
     def is_so(near, rest):
-        return is_so_by(what, look.met(near, rest[0]))
+        return look.told(near, rest[0])
 
     return nearest(book, None if what[0] == 'short' else what[1], below, above, arrive, is_so)
 
@@ -71,14 +68,6 @@ def what_points(book, what):
     if what[0] == 'short':
         return ()
     return what[2:] if what[0] == 'joined' else lamp_ends(book.rows(what[1]), what[2])
-
-
-def is_so_by(what, numbers):
-    """Whether it is so, by numbers of live, back and the points that are equal for those that hang together."""
-    if what[0] != 'lamp':
-        return numbers[-2] == numbers[-1]
-    live, back, one, other = numbers
-    return word_of(live, back, one, other) == what[3]
 
 
 def is_so_in(book, what, landings, number):

@@ -7,6 +7,8 @@ from landingwires.rows import risen_marks, sunk_marks
 from landingwires.standings import Standing, are_marks
 from landingwires.values import is_ascending, is_int
 
+MOST_TRIPLES = 1000
+
 
 class Steps:
     """What rises and sinks by the landings of a book, each reckoned once."""
@@ -32,10 +34,13 @@ class Steps:
 
 
 class Rising:
-    """How one comes upwards from state to state; step tells what a landing makes of the part behind the gate."""
+    """How one comes upwards from state to state; step tells what a landing makes of the part behind the gate.
 
-    def __init__(self, book, rest, step):
-        self.start = (0, *rest)
+    starts are the states in which it begins, each with the landings of a way to it.
+    """
+
+    def __init__(self, book, starts, step):
+        self.starts = starts
         self._book = book
         self._step = step
 
@@ -61,10 +66,10 @@ class Rising:
 
 
 class Sinking:
-    """How one comes downwards from state to state; step tells what a landing makes of the part behind the gate."""
+    """How one comes downwards from state to state, told likewise."""
 
-    def __init__(self, book, rest, step):
-        self.start = (len(book.order), *rest)
+    def __init__(self, book, starts, step):
+        self.starts = starts
         self._book = book
         self._step = step
 
@@ -97,27 +102,39 @@ def led_from(book, item, gate, step, rest):
     return [((kind, position), (gate, *step(kind, position, rest))) for position in positions]
 
 
-def mark_views(book):
-    """Seen from below and seen from above, as pairs (gate, marks)."""
+def mark_steps(book):
+    """What a landing makes, upwards and downwards, of a tuple of marks."""
     steps = Steps(book)
 
     def step_up(kind, position, rest):
-        return (steps.led_up(kind, position, rest[0]),)
+        return tuple([steps.led_up(kind, position, marks) for marks in rest])
 
     def step_down(kind, position, rest):
-        return (steps.led_down(kind, position, rest[0]),)
+        return tuple([steps.led_down(kind, position, marks) for marks in rest])
 
+    return step_up, step_down
+
+
+def end_views(book, low, high, step_up, step_down):
+    """Seen from the lowest gate, where this part stands behind it, and from the last gate, where that one does."""
+    return Rising(book, [((0, *low), ())], step_up), Sinking(book, [((len(book.order), *high), ())], step_down)
+
+
+def mark_views(book):
+    """Seen from below and seen from above, as pairs (gate, marks)."""
+    step_up, step_down = mark_steps(book)
     bare = Standing.bare(book.wires).marks
-    return Rising(book, (bare,), step_up), Sinking(book, (bare,), step_down)
+    return end_views(book, (bare,), (bare,), step_up, step_down)
 
 
 def ways_seen(view, most=None):
-    """The least states that are shut, each with the landings of a shortest way to it, the shortest ways first.
+    """The least states that are shut, each with the landings of a way to it.
 
-    TooMany, if they are more than so many.
+    If it begins without landings, they are shortest ways, the shortest ones first. TooMany, if they are more than so
+    many.
     """
     ways = {}
-    layer = [(view.start, ())]
+    layer = view.starts
     while layer:
         fresh = []
         for told, way in layer:
@@ -131,10 +148,22 @@ def ways_seen(view, most=None):
     return ways
 
 
+def without_ways(states):
+    """The states, each with no landings in the place of a way."""
+    return {state: () for state in states}
+
+
+def is_evidence(book, view, value, is_rest):
+    """Whether any value is an ascending tuple of states that is shut; is_rest tells of the part behind the marks."""
+    return are_states(book, value, is_rest) and is_shut(view, value)
+
+
 def is_shut(view, states):
-    """Whether these states hold the one in which it begins, and all to which one comes from them."""
-    held = {state: True for state in states}
-    if view.start not in held or not all([after in held for state in states for after in view.passed(state)]):
+    """Whether these states hold those in which it begins, and all to which one comes from them."""
+    held = without_ways(states)
+    if not all([state in held for state, way in view.starts]):
+        return False
+    if not all([after in held for state in states for after in view.passed(state)]):
         return False
     return all([after in held for state in states for landing, after in view.led(state)])
 
@@ -152,4 +181,14 @@ def is_state(book, value, is_rest):
         return False
     if not is_int(value[0]) or not 0 <= value[0] <= len(book.order):
         return False
-    return are_marks(value[1]) and len(value[1]) == book.wires + 2 and is_rest(value[2:])
+    return are_marks_of(book, value[1]) and is_rest(value[2:])
+
+
+def are_marks_of(book, value):
+    """Whether any value is marks with as many wires as the book."""
+    return are_marks(value) and len(value) == book.wires + 2
+
+
+def is_nothing(rest):
+    """Whether nothing stands behind the marks of a state."""
+    return rest == ()

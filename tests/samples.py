@@ -236,6 +236,11 @@ class SlowHouse:
             return 'lit'
         return 'warm' if one in live or other in live else 'dark'
 
+    def lit(self):
+        """All lamps that are lit."""
+        return tuple((number, lamp) for number, (kind, _) in enumerate(self.landings)
+                     for lamp in self.book.lamps(kind) if self.word(number, lamp) == 'lit')
+
     def is_so(self, number, what):
         """Whether a landing has what may be."""
         if what == ('short',):
@@ -245,6 +250,84 @@ class SlowHouse:
         if what[0] == 'lamp':
             return self.word(number, what[2]) == what[3]
         return self.joined((number, what[2]), (number, what[3]))
+
+
+def slow_turned(book, landings, number, switch):
+    """The landings with one switch in its other position."""
+    kind, position = landings[number]
+    at = book.switches(kind).index(switch)
+    return landings[:number] + ((kind, flipped(position, at)),) + landings[number + 1:]
+
+
+def flipped(position, at):
+    """The position with one switch the other way."""
+    return position[:at] + ({0: 1, 1: 0}[position[at]],) + position[at + 1:]
+
+
+def switch_pairs(book):
+    """All pairs of a kind and a switch of it."""
+    return [(kind, switch) for kind in book.kinds for switch in book.switches(kind)]
+
+
+def lamp_pairs(book):
+    """All pairs of a kind and a lamp of it."""
+    return [(kind, lamp) for kind in book.kinds for lamp in book.lamps(kind)]
+
+
+def is_item(book, kind):
+    """Whether there are landings of this kind in houses of the book."""
+    return kind in [name for name, _ in book.order]
+
+
+def drawn_line(line, points, lots):
+    """A line with the same name but other points, or another form of switch, drawn by lot."""
+    sizes = {'link': 2, 'switch': 2, 'turn': 3, 'cross': 4, 'lamp': 2}
+    form, *words = line.split()
+    if form in ('switch', 'turn', 'cross'):
+        form = lots.choice(('switch', 'turn', 'cross'))
+    name = [] if form == 'link' else words[:1]
+    return '  ' + ' '.join([form, *name, *lots.sample(points, sizes[form])])
+
+
+def redrawn(book, lots, many=1):
+    """A book of one form with this one, some of its lines drawn anew."""
+    points = [f'{side}{wire + 1}' for side in 'ab' for wire in range(book.wires)] + ['live', 'back', 'x']
+    lines = book.text.split('\n')
+    own = [at for at, line in enumerate(lines) if line.startswith('  ')]
+    for at in lots.sample(own, min(many, len(own))):
+        lines[at] = drawn_line(lines[at], points, lots)
+    return Book('\n'.join(lines))
+
+
+def slow_lead(book, kind, position, marks, up):
+    """The marks at the far side of a landing, each reckoned once."""
+    key = book.text, kind, position, marks, up
+    if key not in LED:
+        led = book.risen if up else book.sunk
+        LED[key] = led(kind, position, Standing(marks)).marks
+    return LED[key]
+
+
+def slow_shut(book, starts, up, lead):
+    """The least states that are shut, seen from below or from above; lead tells of the part behind the gate."""
+    found, waiting = set(starts), list(starts)
+    while waiting:
+        gate, *rest = waiting.pop()
+        led = set()
+        for item, (kind, starred) in enumerate(book.order):
+            low, high = item, item if starred else item + 1
+            here, there = (low, high) if up else (high, low)
+            if gate == here:
+                led |= {(there, *lead(kind, position, rest)) for position in all_positions(book, kind)}
+            here, there = (item, item + 1) if up else (item + 1, item)
+            if starred and gate == here:
+                led.add((there, *rest))
+        waiting += led - found
+        found |= led
+    return found
+
+
+LED = {}
 
 
 def slow_seen(book):

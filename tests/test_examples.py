@@ -54,6 +54,15 @@ Section 8:
 >>> [len(can(hall, ('joined', 'stair', 'a2', 'live'))[1]), can(hall, ('joined', 'stair', 'a1', 'a2'))[0]]
 [3, 'never']
 
+Section 9:
+
+>>> from landingwires.switching import effect
+>>> [effect(hall, ('foot', 's'), ('stair', 'l'))[0], effect(hall, ('stair', 's'), ('stair', 'l'))[0], effect(old, ('head', 's'), ('foot', 'l'))[0]]
+['always', 'always', 'always']
+>>> bent = hall.put(6, '  switch s b1 a1\n  link b2 a2')
+>>> [effect(bent, ('stair', 's'), ('foot', 'l'))[0], effect(bent, ('foot', 's'), ('head', 'l'))[0]]
+['both', 'both']
+
 Section 10:
 
 >>> from landingwires.keeping import keeps
@@ -63,6 +72,51 @@ Section 10:
 [('even', 'odd'), 8, False, ('even',), True, 'even foot 1 odd']
 >>> [keeps(hall, 'stair', 'l', ~rule)[0], keeps(hall, 'stair', 'l', rule)[0], len(keeps(hall, 'foot', 'l', rule)[1]), keeps(old, 'foot', 'l', odd(old))[0]]
 ['keeps', 'breaks', 2, 'keeps']
+
+Section 11:
+
+>>> from landingwires.comparing import alike, needless
+>>> [alike(hall, hall.put(6, '  cross s b2 a2 b1 a1'))[0], len(alike(hall, hall.put(6, '  cross s b1 a2 b2 a1'))[1]), needless(hall.put(7, '  link b3 a3\n  link a3 x')), needless(hall)]
+['alike', 3, (8,), ()]
+
+Section 12:
+
+>>> from landingwires.telling import fitting, parting
+>>> books = (hall, hall.put(6, '  cross s b1 a2 b2 a1'), hall.put(7, '  link b3 a1'))
+>>> [fitting(books, ((house.landings, house.lit),)), fitting(books, ()), len(parting(books[:2])[1]), parting(books[:1])]
+[(0,), (0, 1, 2), 3, ('one',)]
+
+Section 13:
+
+>>> from landingwires.counting import many, shorts
+>>> kinds = ('foot',) + ('stair',) * 98 + ('head',)
+>>> [many(hall, kinds, 50, 'l', 'lit') == 2 ** 64 * 2 ** 35, shorts(hall, kinds), many(old, ('foot', 'head'), 0, 'l', 'warm')]
+[True, 0, 1]
+
+Section 14:
+
+>>> from landingwires.choosing import cheapest
+>>> cheapest(old, ((3, '  switch s live x', 2), (6, '  link b1 back', 1)), (('never', ('lamp', 'foot', 'l', 'warm')), ('always', ('foot', 's'), ('foot', 'l'))))
+('choice', 1, ((6, '  link b1 back', 1),), (((), 0),))
+
+Section 15:
+
+>>> from landingwires.stairs import read_stair, Stair
+>>> steps = Stair(hall)
+>>> [steps.add(kind, (0,)) for kind in ('foot', 'stair', 'stair', 'head')][0] is None
+True
+>>> [len(steps.lit), steps.is_house, steps.tried(lambda held: held.turn(1, 's')), steps.done, steps.journal[3], read_stair(hall, steps.journal) == steps]
+[4, True, None, 4, 'add head 0', True]
+>>> steps[2] = (1,)
+>>> [steps.lit, steps.undo(), len(steps.lit), steps.word(3, 'l')]
+[(), None, 4, 'lit']
+
+Section 16:
+
+>>> from landingwires.desk import Desk
+>>> desk = Desk(old.text)
+>>> [desk.say(line) for line in ('add foot 0', 'add head 0', 'word 0 l', 'turn 1 s', 'lit', 'can foot l warm', 'does head s foot l', 'undo', 'lit')]
+['done', 'done', 'warm', 'done', '0 l', '2', 'always', 'done', '-']
 """
 
 import doctest
@@ -74,7 +128,7 @@ class ExamplesTest(unittest.TestCase):
 
     def test_examples(self):
         told = doctest.testmod(sys.modules[__name__])
-        self.assertEqual((told.failed, told.attempted), (0, 31))
+        self.assertEqual((told.failed, told.attempted), (0, 54))
 
 
 if __name__ == '__main__':

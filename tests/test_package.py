@@ -11,11 +11,18 @@ import unittest
 
 from landingwires.books import Book
 from landingwires.burning import burns, shows_burns
+from landingwires.choosing import cheapest
+from landingwires.comparing import alike, needless, shows_alike
+from landingwires.counting import many, shorts
+from landingwires.desk import Desk
 from landingwires.houses import House
 from landingwires.keeping import keeps, shows_keeps
 from landingwires.reaching import can, shows_can, standings
 from landingwires.rules import Rule, odd
+from landingwires.stairs import Stair, read_stair
 from landingwires.standings import Standing
+from landingwires.switching import effect, shows_effect
+from landingwires.telling import fitting, parting, shows_parting
 
 FOLDER = pathlib.Path(__file__).resolve().parent.parent / 'landingwires'
 METHODS = {
@@ -24,7 +31,10 @@ METHODS = {
            '__getitem__', '__contains__', '__invert__', '__eq__'),
     House: ('__init__', 'book', 'landings', 'is_short', 'lit', 'word', 'joined', 'below', 'above', 'turned', '__len__',
             '__getitem__', '__invert__', '__eq__'),
-    Rule: ('__init__', 'text', 'states', 'begin', 'lit', '__call__', '__invert__', '__eq__')}
+    Rule: ('__init__', 'text', 'states', 'begin', 'lit', '__call__', '__invert__', '__eq__'),
+    Stair: ('__init__', 'book', 'landings', 'is_house', 'done', 'lit', 'word', 'add', 'take', 'turn', 'change', 'undo', 'redo',
+            'trial', 'tried', 'keep', 'copy', 'journal', '__len__', '__getitem__', '__setitem__', '__iter__', '__eq__'),
+    Desk: ('__init__', 'stair', 'say')}
 PARAMETERS = {
     Standing: ['marks'], Standing.bare: ['wires'], Standing.within: ['self', 'other'], Book: ['text'],
     Book.switches: ['self', 'kind'], Book.lamps: ['self', 'kind'], Book.put: ['self', 'number', 'text'],
@@ -33,10 +43,20 @@ PARAMETERS = {
     House.below: ['self', 'number'], House.above: ['self', 'number'], House.turned: ['self', 'number', 'switch'],
     burns: ['house', 'number', 'lamp'], shows_burns: ['house', 'number', 'lamp', 'value'], standings: ['book'],
     can: ['book', 'what'], shows_can: ['book', 'what', 'value'], Rule: ['text'], Rule.__call__: ['self', 'house'],
-    odd: ['book'], keeps: ['book', 'kind', 'lamp', 'rule'], shows_keeps: ['book', 'kind', 'lamp', 'rule', 'value']}
+    odd: ['book'], keeps: ['book', 'kind', 'lamp', 'rule'], shows_keeps: ['book', 'kind', 'lamp', 'rule', 'value'],
+    effect: ['book', 'mine', 'theirs'], shows_effect: ['book', 'mine', 'theirs', 'value'], alike: ['one', 'other'],
+    needless: ['book'], shows_alike: ['one', 'other', 'value'], fitting: ['books', 'trials'], parting: ['books'],
+    shows_parting: ['books', 'value'], shorts: ['book', 'kinds'], many: ['book', 'kinds', 'number', 'lamp', 'word'],
+    cheapest: ['book', 'offers', 'wishes'], Stair: ['book'], Stair.word: ['self', 'number', 'lamp'],
+    Stair.add: ['self', 'kind', 'position'], Stair.take: ['self'], Stair.turn: ['self', 'number', 'switch'],
+    Stair.change: ['self', 'other'], Stair.undo: ['self'], Stair.redo: ['self'], Stair.trial: ['self'],
+    Stair.tried: ['self', 'look', 'keep'], Stair.keep: ['self'], Stair.copy: ['self'], read_stair: ['book', 'lines'],
+    Desk: ['text'], Desk.say: ['self', 'line']}
 FILES = {
     'standings': (Standing,), 'books': (Book,), 'houses': (House,), 'burning': (burns, shows_burns),
-    'reaching': (standings, can, shows_can), 'rules': (Rule, odd), 'keeping': (keeps, shows_keeps)}
+    'reaching': (standings, can, shows_can), 'rules': (Rule, odd), 'keeping': (keeps, shows_keeps),
+    'switching': (effect, shows_effect), 'comparing': (alike, needless, shows_alike), 'telling': (fitting, parting, shows_parting),
+    'counting': (shorts, many), 'choosing': (cheapest,), 'stairs': (Stair, read_stair), 'desk': (Desk,)}
 BUILTINS = '''len range enumerate zip min max sum abs sorted int str bool list tuple dict set isinstance ord repr any all
 divmod ValueError TypeError'''.split()
 BARRED = re.compile(r'\b(type|typing|enum|Enum|Flag|Generic|Protocol|ABC|namedtuple|register|mro|law|_wall)\b')
@@ -118,6 +138,45 @@ class FilesTest(unittest.TestCase):
                     self.check(all(kept), path, node.lineno)
                 self.check(not isinstance(node, (ast.Lambda, ast.GeneratorExp, ast.Yield, ast.AnnAssign)), path,
                            getattr(node, 'lineno', 0))
+
+    def test_no_name_means_two_things(self):
+        for path, text in files():
+            tree = ast.parse(text)
+            taken = [alias.name for node in tree.body if isinstance(node, ast.ImportFrom) for alias in node.names]
+            taken += [node.name for node in tree.body if isinstance(node, (ast.ClassDef, ast.FunctionDef))]
+            self.assertEqual(len(taken), len(set(taken)), path)
+            for node in ast.walk(tree):
+                if isinstance(node, ast.arg):
+                    self.check(node.arg not in taken, path, node.lineno)
+                if isinstance(node, ast.Name) and isinstance(node.ctx, ast.Store):
+                    self.check(node.id not in taken, path, node.lineno)
+
+    def test_what_is_imported_is_used(self):
+        for path, text in files():
+            tree = ast.parse(text)
+            used = [node.id for node in ast.walk(tree) if isinstance(node, ast.Name)]
+            for node in tree.body:
+                for alias in node.names if isinstance(node, ast.ImportFrom) else ():
+                    self.check(alias.name in used, path, node.lineno)
+
+    def test_methods_of_builtin_values(self):
+        # A set is not kept, nor a list sorted in its place: the package has a method add, and classes that compare.
+        for path, text in files():
+            for node in ast.walk(ast.parse(text)):
+                if isinstance(node, ast.Call) and isinstance(node.func, ast.Attribute):
+                    self.check(node.func.attr not in ('sort', 'format', 'keys', 'clear'), path, node.lineno)
+                    if node.func.attr == 'add':
+                        self.check(node.func.value.id == 'stair' and not node.keywords, path, node.lineno)
+
+    def test_no_two_files_import_from_each_other(self):
+        found = {path.stem: {node.module.split('.')[1] for node in ast.parse(text).body if isinstance(node, ast.ImportFrom)}
+                 for path, text in files()}
+        left = dict(found)
+        while left:
+            free = [name for name, others in left.items() if not others & set(left)]
+            self.assertTrue(free, left)
+            for name in free:
+                del left[name]
 
 
 if __name__ == '__main__':

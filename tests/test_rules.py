@@ -1,13 +1,14 @@
 """Points 2 and 10: rules, as far as they stand by themselves."""
 
 import itertools
+import random
 import unittest
 
 from landingwires.books import Book
 from landingwires.errors import BadRule
 from landingwires.houses import House
 from landingwires.rules import Rule, odd
-from samples import HALL, MIXED, OLD, SMALL, all_landings, any_values, drawn_rules, lots_of_books, slow_says
+from samples import HALL, MIXED, OLD, SMALL, all_landings, any_values, drawn_rules, lots_of_books, slow_move, slow_says
 
 EVEN = 'begin even\neven foot 1 odd\nodd foot 1 even\nlit odd'
 SIX = 'begin a\na k - b\nb k - c\nc k - d\nd k - e\ne k - f\nlit a b c d e f'
@@ -136,6 +137,20 @@ class ToldTest(unittest.TestCase):
                     self.assertIs(says, slow_says(rule, landings))
                     self.assertIs((~rule)(house=House(book, landings)), not says)
         self.assertEqual(said, {True, False})
+
+    def test_the_state_after_each_landing_against_a_slow_walk(self):
+        # A rule that says lit at one state only tells whether it is in it.
+        lots = random.Random(3)
+        for book in [Book(OLD), Book(MIXED), *lots_of_books(1, 4, 18)]:
+            for rule in drawn_rules(book, 5, 1):
+                lines = rule.text.split('\n')
+                rules = {state: Rule('\n'.join([*lines[:-1], 'lit ' + state])) for state in rule.states}
+                for landings in lots.choices(all_landings(book, 3), k=8):
+                    house, state = House(book, landings), rule.begin
+                    for kind, position in landings:
+                        state = slow_move(rule, state, kind, position)
+                    self.assertEqual([name for name in rules if rules[name](house)], [state])
+                    self.assertIs(rule(house), state in rule.lit)
 
     def test_what_no_line_tells_leaves_the_state(self):
         house = House(Book(MIXED), (('mid', (0, 1, 0)), ('top', ()), ('low', (1, 0))))
