@@ -45,12 +45,17 @@ def all_choices(offers):
     choices = [()]
     for offer in offers:
         choices = [*choices, *[(*choice, offer) for choice in choices if not has_line(choice, offer[0])]]
-    return sorted([(sum([offer[2] for offer in choice]), len(choice), choice) for choice in choices])
+    return sorted([(price_of(choice), len(choice), choice) for choice in choices])
 
 
 def has_line(choice, number):
     """Whether an offer of a choice is for the line with this number."""
     return number in [offer[0] for offer in choice]
+
+
+def price_of(choice):
+    """The sum of the prices of the offers of a choice."""
+    return sum([offer[2] for offer in choice])
 
 
 def changed_book(book, choice):

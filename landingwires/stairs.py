@@ -2,7 +2,7 @@
 
 from landingwires.books import Book
 from landingwires.errors import (BadJournal, BadPosition, BadSay, Empty, NoRoom, NothingToRedo, NothingToUndo, NoTrial,
-                                 NoKind, Unlike, WireError)
+                                 Unlike, WireError)
 from landingwires.gates import gates_behind
 from landingwires.landings import check_number, lamp_word, lit_lamps, with_position, with_turned
 from landingwires.lines import DEEDS, do_deed, told_words
@@ -148,8 +148,6 @@ class Stair:
         return gates_behind(self.book.order, [*[kind for kind, position in self.landings], *more])
 
     def _check_position(self, kind, position):
-        if kind not in self.book:
-            raise NoKind(kind)
         if not is_position(position, len(self.book.switches(kind))):
             raise BadPosition(position)
 

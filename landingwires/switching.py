@@ -21,7 +21,8 @@ def effect(book, mine, theirs):
     turned = nearest_looked(book, mine, theirs, seen, True)
     still = nearest_looked(book, mine, theirs, seen, False)
     if turned is None or still is None:
-        return 'always' if still is None else 'never', tuple([tuple(sorted(states)) for states in seen])
+        word = 'always' if still is None else 'never'
+        return word, tuple([tuple(sorted(states)) for states in seen])
     return 'both', told_triple(book, mine, theirs, turned, True), told_triple(book, mine, theirs, still, False)
 
 
@@ -109,8 +110,11 @@ def told_triple(book, mine, theirs, found, wanted):
     """The landings, the number of a landing whose switch does so to the lamp, and that of the landing of the lamp."""
     low, landing, high = found
     landings = (*low, landing, *high)
-    triples = [(landings, number, len(low)) for number in range(len(landings))]
-    return [triple for triple in triples if is_turned_in(book, mine, theirs, triple, wanted)][0]
+    for number in range(len(landings)):
+        triple = (landings, number, len(low))
+        if is_turned_in(book, mine, theirs, triple, wanted):
+            return triple
+    return None
 
 
 def is_turned_in(book, mine, theirs, value, wanted):
@@ -130,15 +134,15 @@ def is_turned_in(book, mine, theirs, value, wanted):
 def shows_all(book, mine, theirs, value):
     """Whether the second part are lists that are shut, at no meeting of which the lamp is other than the first part."""
     word, shown = value
+
+    def is_rest(rest):
+        return len(rest) == 1 and are_marks_of(book, rest[0])
+
     if not isinstance(shown, tuple) or len(shown) != 4:
         return False
     rising, sinking = mark_views(book)
     if not is_evidence(book, rising, shown[0], is_nothing) or not is_evidence(book, sinking, shown[1], is_nothing):
         return False
-
-    def is_rest(rest):
-        return len(rest) == 1 and are_marks_of(book, rest[0])
-
     rising, sinking = turned_views(book, mine, without_ways(shown[0]), without_ways(shown[1]))
     if not is_evidence(book, rising, shown[2], is_rest) or not is_evidence(book, sinking, shown[3], is_rest):
         return False

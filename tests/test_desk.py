@@ -152,7 +152,9 @@ class ErrorsTest(DeskCase):
                      'can', 'can foot', 'can foot l', 'can foot l lit lit', 'can  foot l lit', 'can foot l  lit', 'does', 'does foot s foot',
                      'does foot s foot l l', 'does foot  s foot l', 'does foot s foot l ', 'keep', 'trial', 'journal', 'house', 'done', 'never',
                      'change ' + HALL.replace('\n', '/'), 'change', 'change foot', 'add stair 0\n', '\nadd stair 0', 'add\nstair 0', 'take\n', 'lit\nlit',
-                     'word 0 l\n', 'can foot l\nlit', '\n', 'add stair\n0 0', 'copy', 'short'):
+                     'word 0 l\n', 'can foot l\nlit', '\n', 'add stair\n0 0', 'copy', 'short', 'add stair ', 'add  0',
+                     'add  ', 'turn 0 ', 'turn  s', 'set 0 ', 'set  0', 'word 0 ', 'word  l', 'can foot l ', 'can foot  lit', 'can  l lit',
+                     'does foot s foot ', 'does foot s  l', 'does  s foot l', ' foot s foot l'):
             check_raises(self, BadSay, line, desk.say, line)
         self.assertEqual(desk.stair.journal, ('add foot 0',))
 

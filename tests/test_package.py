@@ -151,6 +151,26 @@ class FilesTest(unittest.TestCase):
                 if isinstance(node, ast.Name) and isinstance(node.ctx, ast.Store):
                     self.check(node.id not in taken, path, node.lineno)
 
+    def test_variables_of_comprehensions_are_no_names_from_further_out(self):
+        forms = (ast.ListComp, ast.SetComp, ast.DictComp)
+
+        def stored(node):
+            inner = [child for child in ast.iter_child_nodes(node) if not isinstance(child, (ast.FunctionDef, *forms))]
+            own = {node.id} if isinstance(node, ast.Name) and isinstance(node.ctx, ast.Store) else set()
+            own |= {node.arg} if isinstance(node, ast.arg) else set()
+            return own.union(*[stored(child) for child in inner])
+
+        def visit(path, node, outer):
+            for child in ast.iter_child_nodes(node):
+                more = stored(child) if isinstance(child, ast.FunctionDef) else set()
+                if isinstance(child, forms):
+                    more = set().union(*[stored(part.target) for part in child.generators])
+                    self.check(not more & outer, path, child.lineno)
+                visit(path, child, outer | more)
+
+        for path, text in files():
+            visit(path, ast.parse(text), set())
+
     def test_what_is_imported_is_used(self):
         for path, text in files():
             tree = ast.parse(text)

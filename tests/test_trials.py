@@ -366,7 +366,7 @@ class JournalTest(unittest.TestCase):
         for line in ('', ' ', 'add', 'add stair', 'add stair 0 0', 'add  stair 0', 'add stair  0', ' add stair 0', 'add stair 0 ', 'Add stair 0',
                      'adds stair 0', 'take 0', ' take', 'take ', 'TAKE', 'turn', 'turn 0', 'turn 0 s s', 'turn  0 s', 'turn 0  s', 'turn 0 s ',
                      'set', 'set 0', 'set 0 0 0', 'set  0 0', 'set 0 0 ', 'undo', 'redo', 'lit', 'word 0 l', 'can foot l lit',
-                     'does foot s foot l', 'change', 'change ', ' change', 'nonsense', 'keep', 'trial', 'add\tstair 0'):
+                     'does foot s foot l', 'change', 'change ', ' change', 'nonsense', 'keep', 'trial', 'add\tstair 0', 'add stair ', 'add  0', 'turn 0 ', 'turn  s', 'set 0 ', 'set  0'):
             self.check_line(line)
 
     def test_line_feeds(self):
